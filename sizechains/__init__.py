@@ -1,0 +1,1 @@
+"""Chains of steps that scale, crop and turn pictures of any size, computed exactly."""
