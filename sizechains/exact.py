@@ -3,10 +3,15 @@
 from sizechains.errors import InvalidFraction, InvalidText
 
 
+def is_integer(value):
+    """Return True if the value is an integer, otherwise False."""
+    # True and False are ints for Python, but no integers for this program.
+    return isinstance(value, int) and not isinstance(value, bool)
+
+
 def is_positive(value):
     """Return True if the value is a positive integer, otherwise False."""
-    # True and False are ints for Python, but no integers for this program.
-    return isinstance(value, int) and not isinstance(value, bool) and value > 0
+    return is_integer(value) and value > 0
 
 
 def common_divisor(one, other):
@@ -71,16 +76,31 @@ def quotient(one, other):
     return lowest_terms(one[0] * other[1], one[1] * other[0])
 
 
-def compare(one, other):
-    """Return -1, 0 or 1 if one is less than, equal to or greater than other."""
-    check_fractions((one, other))
-    left = one[0] * other[1]
-    right = other[0] * one[1]
+def order(left, right):
+    """Return -1, 0 or 1 if the left integer is less than, equal to or greater than the right one."""
     if left < right:
         return -1
     if left > right:
         return 1
     return 0
+
+
+def compare(one, other):
+    """Return -1, 0 or 1 if one is less than, equal to or greater than other."""
+    check_fractions((one, other))
+    return order(one[0] * other[1], other[0] * one[1])
+
+
+def between(low, high):
+    """Return a fraction above low and below high; None means that there is no such limit."""
+    if low is None and high is None:
+        return (1, 1)
+    if low is None:
+        return lowest_terms(high[0], high[1] * 2)
+    if high is None:
+        return lowest_terms(low[0] * 2, low[1])
+    # Written this way, the fraction has few digits where the limits have few.
+    return lowest_terms(low[0] + high[0], low[1] + high[1])
 
 
 def format_fraction(number):

@@ -1,7 +1,13 @@
 """Sizes of pictures: a width and a height, which are fractions."""
 
-from sizechains.errors import InvalidText
+from sizechains.errors import InvalidSize, InvalidText
 from sizechains.exact import as_fraction, compare, find_fraction, format_fraction, product, quotient
+
+
+def check_size(size):
+    """Raise InvalidSize if the value is not a Size."""
+    if not isinstance(size, Size):
+        raise InvalidSize(size)
 
 
 class Size:

@@ -1,28 +1,47 @@
-"""The names, arguments and files of the interface (promise 8)."""
+"""The names, arguments and files of the interface."""
 
 import inspect
 import unittest
 
-from sizechains import exact, sizes
+from sizechains import chains, comparing, exact, sizes, steps, tables
 
 FUNCTIONS = {
-    "is_fraction": "(value)",
-    "fraction": "(top, bottom=1)",
-    "product": "(*fractions)",
-    "quotient": "(one, other)",
-    "compare": "(one, other)",
-    "format_fraction": "(number)",
-    "parse_fraction": "(text)",
+    exact: {
+        "is_fraction": "(value)",
+        "fraction": "(top, bottom=1)",
+        "product": "(*fractions)",
+        "quotient": "(one, other)",
+        "compare": "(one, other)",
+        "format_fraction": "(number)",
+        "parse_fraction": "(text)",
+    },
+    tables: {"table": "(chain)", "row_of": "(chain, size)", "result_by": "(row, size)"},
+    comparing: {
+        "same_effect": "(chain, other)",
+        "difference": "(chain, other)",
+        "is_stable": "(chain)",
+        "commute": "(chain, other)",
+    },
+}
+STEPS = {
+    "Shrink": "(width, height, *, cover=False)",
+    "Grow": "(width, height, *, cover=False)",
+    "CropWidth": "(width, height, *, keep='center')",
+    "CropHeight": "(width, height, *, keep='center')",
+    "Turn": "(times=1)",
+    "Landscape": "()",
+    "Portrait": "()",
 }
 
 
 class InterfaceTest(unittest.TestCase):
 
-    def test_functions_of_exact(self):
-        for name, arguments in FUNCTIONS.items():
-            function = vars(exact)[name]
-            self.assertEqual(function.__module__, "sizechains.exact")
-            self.assertEqual(str(inspect.signature(function)), arguments, name)
+    def test_functions(self):
+        for module, functions in FUNCTIONS.items():
+            for name, arguments in functions.items():
+                function = vars(module)[name]
+                self.assertEqual(function.__module__, module.__name__)
+                self.assertEqual(str(inspect.signature(function)), arguments, name)
 
     def test_size(self):
         self.assertEqual(sizes.Size.__module__, "sizechains.sizes")
@@ -30,6 +49,24 @@ class InterfaceTest(unittest.TestCase):
         self.assertEqual(str(inspect.signature(sizes.Size)), "(width, height)")
         self.assertEqual(str(inspect.signature(sizes.Size.read)), "(text)")
         self.assertEqual(str(inspect.signature(sizes.Size.turned)), "(self)")
+
+    def test_steps(self):
+        for name in ("Step", "Scaling", "Crop"):
+            self.assertEqual(vars(steps)[name].__module__, "sizechains.steps")
+        for name, arguments in STEPS.items():
+            kind = vars(steps)[name]
+            self.assertEqual(kind.__module__, "sizechains.steps")
+            self.assertEqual(str(inspect.signature(kind)), arguments)
+            self.assertEqual(str(inspect.signature(vars(kind)["apply"])), "(self, size)")
+        self.assertEqual(str(inspect.signature(steps.Step.read)), "(text)")
+
+    def test_chain(self):
+        self.assertEqual(chains.Chain.__module__, "sizechains.chains")
+        self.assertEqual(chains.Chain.__bases__, (object,))
+        self.assertEqual(str(inspect.signature(chains.Chain)), "(*steps)")
+        self.assertEqual(str(inspect.signature(chains.Chain.read)), "(text)")
+        self.assertEqual(str(inspect.signature(chains.Chain.walk)), "(self, size)")
+        self.assertEqual(str(inspect.signature(chains.Chain())), "(size)")
 
 
 if __name__ == "__main__":
