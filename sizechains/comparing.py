@@ -1,7 +1,7 @@
 """Comparing chains on all sizes at once."""
 
 from sizechains.chains import check_chain
-from sizechains.exact import between, compare, product, quotient
+from sizechains.exact import between, lesser, product, quotient
 from sizechains.sizes import Size
 from sizechains.tables import result_by, table_of
 from sizechains.terms import value_at
@@ -19,15 +19,6 @@ def same_effect(chain, other):
     return table_of(chain.steps) == table_of(other.steps)
 
 
-def lower_limit(one, other):
-    """Return the lower one of two upper limits of ratios; None means that there is no limit."""
-    if one is None:
-        return other
-    if other is None:
-        return one
-    return one if compare(one, other) < 0 else other
-
-
 def overlaps(rows, others):
     """Return for each overlap of a row of one table with a row of the other one its limits and both rows."""
     found = []
@@ -36,7 +27,7 @@ def overlaps(rows, others):
     # Both tables end together, since the last row of each has no upper limit.
     while passed < len(rows):
         row, other = rows[passed], others[others_passed]
-        high = lower_limit(row[1], other[1])
+        high = lesser(row[1], other[1])
         found.append((low, high, row, other))
         low = high
         if row[1] == high:

@@ -91,6 +91,31 @@ def compare(one, other):
     return order(one[0] * other[1], other[0] * one[1])
 
 
+def lesser(one, other):
+    """Return the lesser one of two fractions; if one of them is None, the other one."""
+    if one is None:
+        return other
+    if other is None:
+        return one
+    return one if compare(one, other) < 0 else other
+
+
+def greater(one, other):
+    """Return the greater one of two fractions; if one of them is None, the other one."""
+    if one is None:
+        return other
+    if other is None:
+        return one
+    return one if compare(one, other) > 0 else other
+
+
+def is_within(number, low, high):
+    """Return True if the fraction is neither below low nor above high; None means that there is no such limit."""
+    if low is not None and compare(number, low) < 0:
+        return False
+    return high is None or compare(number, high) <= 0
+
+
 def between(low, high):
     """Return a fraction above low and below high; None means that there is no such limit."""
     if low is None and high is None:

@@ -13,6 +13,16 @@ def check_box(width, height):
             raise InvalidBox(side)
 
 
+def sides_to_try(numbers):
+    """Return widths to try, ascending, for a box by which scalings of one kind are to lead to these widths.
+
+    For each height of the box, the widths by which they do follow one another, and the least one is 1 or one of these
+    widths, rounded up. The same holds for heights.
+    """
+    rounded = [-(-number[0] // number[1]) for number in numbers]
+    return [side for side in sorted(set([1] + rounded)) if side <= MOST_SIDE]
+
+
 class Step:
     """What all steps have; a step never changes."""
 
@@ -200,15 +210,19 @@ def find_sides(text, sign):
     return (int(width), int(height))
 
 
+def scaling(word, width, height, cover):
+    """Return the scaling with this word."""
+    if word == Shrink.WORD:
+        return Shrink(width, height, cover=cover)
+    return Grow(width, height, cover=cover)
+
+
 def find_scaling(word, details):
     """Return the scaling with this word and this list of details, None if there is none."""
     sides = find_sides(details[0], "x") if details else None
     if sides is None:
         return None
-    cover = len(details) > 1
-    if word == "shrink":
-        return Shrink(sides[0], sides[1], cover=cover)
-    return Grow(sides[0], sides[1], cover=cover)
+    return scaling(word, sides[0], sides[1], len(details) > 1)
 
 
 def find_crop(word, details):

@@ -1,11 +1,11 @@
-"""Tables: complete descriptions of what chains make of sizes.
+"""Tables: complete descriptions of what chains make of sizes, and what their rows tell of all results.
 
 While a table is worked out, the ratio of the result and the factor of a row are terms, too: "same" is R to the power 1,
 "inverse" to the power -1, a height (f, 0), a width (f, 1), since the width is the height multiplied by R.
 """
 
 from sizechains.chains import check_chain
-from sizechains.exact import between, compare, lowest_terms, product, quotient
+from sizechains.exact import between, compare, greater, is_within, lesser, lowest_terms, product, quotient
 from sizechains.sizes import Size, check_size
 from sizechains.steps import Crop, CropWidth, Landscape, Scaling, Shrink, Turn
 from sizechains.terms import greater_at, lesser_at, meeting, order_at, term_product, term_quotient, value_at
@@ -190,3 +190,82 @@ def result_by(row, size):
     elif ratio == "inverse":
         ratio = quotient((1, 1), size.ratio)
     return Size(product(ratio, height), height)
+
+
+def is_shaping(row):
+    """Return True if all results of the row have one ratio, otherwise False."""
+    return row[2] not in ("same", "inverse")
+
+
+def ratio_term(row):
+    """Return the term of the ratio of the results of the row."""
+    if is_shaping(row):
+        return (row[2], 0)
+    return ((1, 1), 1 if row[2] == "same" else -1)
+
+
+def bound_of(row, sign):
+    """Return the bound `most` (sign 1) or `least` (sign -1) of the row."""
+    return row[5] if sign > 0 else row[4]
+
+
+def side_terms(row, bound):
+    """Return the terms of the width and of the height of those results of the row whose height is the bound."""
+    return (term_product(ratio_term(row), bound), bound)
+
+
+def extreme(row, term, sign):
+    """Return the greatest value (sign 1) or the least one (sign -1) of a term in the row, None if there is none."""
+    if term[1] == 0:
+        return term[0]
+    end = row[1] if term[1] == sign else row[0]
+    # Towards 0, or beyond all limits, a term grows or falls without ever reaching an end.
+    return None if end is None else value_at(term, end)
+
+
+def extreme_sides(row, sign):
+    """Return the greatest (sign 1) or the least (sign -1) width and height of the results of the row, or Nones."""
+    bound = bound_of(row, sign)
+    if bound is None:
+        return (None, None)
+    return tuple([extreme(row, term, sign) for term in side_terms(row, bound)])
+
+
+def narrowed(row, ratio):
+    """Return the row for those sizes only whose results have the ratio, None if it holds for no such size."""
+    if is_shaping(row):
+        return row if row[2] == ratio else None
+    if row[2] == "inverse":
+        ratio = quotient((1, 1), ratio)
+    return (ratio, ratio) + row[2:] if is_within(ratio, row[0], row[1]) else None
+
+
+def reaches(row, size):
+    """Return True if the size is a result of the row, otherwise False."""
+    row = narrowed(row, size.ratio)
+    if row is None:
+        return False
+    # From the least height to the greatest one each occurs, since the bounds are continuous.
+    return is_within(size.height, extreme_sides(row, -1)[1], extreme_sides(row, 1)[1])
+
+
+def far_ratios(row, ratio):
+    """Return the ends of the row; for an end that it does not have, a ratio of the row beyond the given one."""
+    low, high = row[0], row[1]
+    if low is None:
+        low = between(None, lesser(ratio, high))
+    if high is None:
+        high = between(greater(ratio, low), None)
+    return (low, high)
+
+
+def size_before(row, ratio, height):
+    """Return the size of this ratio whose result, but for the bounds of the row, has this height."""
+    factor = row[3]
+    if factor is None:
+        # Then the bounds alone tell the height.
+        return Size(ratio, 1)
+    old = quotient(height, factor[0])
+    if factor[1] == "width":
+        return Size(old, quotient(old, ratio))
+    return Size(product(ratio, old), old)

@@ -22,8 +22,21 @@ WRONG_FRACTIONS = WRONG_VALUES + (1, 3, FORTY, "", "3", "3/2", "3x2")
 WRONG_SIDES = WRONG_VALUES + ("", "3", "3/2", "3x2")
 
 
+NO_SIZES = (
+    None, True, False, 0, 8, (8, 6), ((8, 1), (6, 1)), [8, 6], (Size(8, 6),), [Size(8, 6)], "", "8x6", b"8x6", {},
+    set(), object(), Size, len, InvalidText("8x6"),
+)
+
+
 class ProgramTest(unittest.TestCase):
     """A test case that knows how the program refuses."""
+
+    def assert_told(self, error_class, attribute, value, call, *args, **named):
+        """The call raises exactly this class, with this one attribute."""
+        with self.assertRaises(error_class) as caught:
+            call(*args, **named)
+        self.assertIs(type(caught.exception), error_class)
+        self.assertEqual(vars(caught.exception), {attribute: value})
 
     def assert_refused(self, error_class, value, call, *args, **named):
         """The call raises exactly this class, with the very value as its one attribute."""

@@ -1,4 +1,7 @@
-"""What the document says of steps and rows, told once more with Python's own fractions, and sizes and chains to try."""
+"""What the document says of steps, rows and views, told once more with Python's own fractions.
+
+Also sizes and chains to try.
+"""
 
 import random
 from fractions import Fraction
@@ -73,6 +76,50 @@ def row_result(row, size):
     return size_of(shape * new, new)
 
 
+def cut_corners(corners, word, keep, share):
+    """Return the corners of what a crop keeps: this share of the width, or of the height."""
+    if word == "height":
+        # What is top and bottom becomes left and right, and the other way about.
+        first, second, third, fourth = corners
+        keep = {"top": "left", "bottom": "right"}.get(keep, keep)
+        first, fourth, third, second = cut_corners((first, fourth, third, second), "width", keep, share)
+        return first, second, third, fourth
+    start = {"left": 0, "center": (1 - share) / 2, "right": 1 - share}[keep]
+
+    def along(one, other, part):
+        return tuple(a + (b - a) * part for a, b in zip(one, other))
+
+    upper, right, lower, left = corners
+    return (along(upper, right, start), along(upper, right, start + share),
+            along(left, lower, start + share), along(left, lower, start))
+
+
+def chain_view(text, size):
+    """Return the view of a chain with this text: where in the original the corners of what is seen lie.
+
+    The corners are the upper left, upper right, lower right and lower left one of the picture as it is seen.
+    """
+    width, height = sides_of(size)
+    corners = tuple((Fraction(x), Fraction(y)) for x, y in ((0, 0), (1, 0), (1, 1), (0, 1)))
+    turns = 0
+    for part in text.split(", ") if text else []:
+        word, *details = part.split()
+        new_width, new_height = step_result(part, width, height)
+        times = {"turn": int(details[0]) if word == "turn" else 0, "landscape": height > width,
+                 "portrait": width > height}.get(word, 0)
+        for _ in range(times):
+            corners = (corners[3], *corners[:3])
+        turns += times
+        if word in ("width", "height"):
+            share = new_width / width if word == "width" else new_height / height
+            if share != 1:
+                corners = cut_corners(corners, word, details[1], share)
+        width, height = new_width, new_height
+    across, down = [x for x, _ in corners], [y for _, y in corners]
+    edges = (min(across), min(down), max(across), max(down))
+    return (turns % 4, *[(edge.numerator, edge.denominator) for edge in edges])
+
+
 def random_step(chance, most):
     """Return any step with sides up to most; chance is a random.Random."""
     kind = chance.choice((Shrink, Shrink, Grow, Grow, CropWidth, CropHeight, Turn, Landscape, Portrait))
@@ -133,4 +180,16 @@ def sizes_to_try(table):
                 scale = number(row[3][0]) * (ratio if row[3][1] == "width" else 1)
                 heights |= {number(f) * ratio ** power / scale for f, power in [b for b in row[4:] if b]}
         sizes += [size_of(ratio * height, height) for height in sorted(heights)[:9]]
+    return sizes
+
+
+def sizes_at_bounds(table):
+    """Return sizes at the limits of the rows of a table and inside them, for which the height is a bound, or near."""
+    sizes = []
+    for low, high, _, factor, *bounds in table:
+        ends = [number(end) for end in (low, high) if end]
+        for ratio in ends + [end * by for end in ends for by in (1 - TINY, 1 + TINY)] + [Fraction(1)]:
+            scale = 1 if factor is None else number(factor[0]) * (ratio if factor[1] == "width" else 1)
+            heights = [number(f) * ratio ** power / scale for f, power in [bound for bound in bounds if bound]]
+            sizes += [size_of(ratio * height, height) for height in heights or [Fraction(1)]]
     return sizes

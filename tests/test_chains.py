@@ -35,17 +35,7 @@ NO_CHAINS = (
 )
 
 
-class ChainTest(ProgramTest):
-
-    def assert_told(self, error_class, attribute, value, call, *args, **named):
-        """The call raises exactly this class, with this one attribute."""
-        with self.assertRaises(error_class) as caught:
-            call(*args, **named)
-        self.assertIs(type(caught.exception), error_class)
-        self.assertEqual(vars(caught.exception), {attribute: value})
-
-
-class CreationTest(ChainTest):
+class CreationTest(ProgramTest):
 
     def test_steps(self):
         for steps in ((), (BOX,), (BOX, SQUARE), (BOX, BOX, BOX), tuple(STEPS[:60]), (QUARTER,) * 60):
@@ -84,7 +74,7 @@ class CreationTest(ChainTest):
             self.assertIn(name, vars(Chain))
 
 
-class TextTest(ChainTest):
+class TextTest(ProgramTest):
 
     def test_texts(self):
         for chain, text in (
@@ -132,7 +122,7 @@ class TextTest(ChainTest):
         self.assertEqual(len(Chain.read("turn 1")), 1)
 
 
-class ResultTest(ChainTest):
+class ResultTest(ProgramTest):
 
     def test_one_step_after_the_other(self):
         chance = random.Random(7)
@@ -187,7 +177,7 @@ class ResultTest(ChainTest):
             self.assertRaises(TypeError, list, chain)
 
 
-class SumTest(ChainTest):
+class SumTest(ProgramTest):
 
     def test_sums(self):
         for chain in CHAINS[::5]:
@@ -228,7 +218,7 @@ class SumTest(ChainTest):
         self.assertEqual([len(chain), len(kept)], [4, 1])
 
 
-class RepeatTest(ChainTest):
+class RepeatTest(ProgramTest):
 
     def test_repeated(self):
         for steps in ((), (BOX,), (BOX, SQUARE), (BOX, SQUARE, QUARTER)):
@@ -259,7 +249,7 @@ class RepeatTest(ChainTest):
                 self.assert_refused(InvalidTimes, value, lambda: chain * value)
 
 
-class StepTest(ChainTest):
+class StepTest(ProgramTest):
 
     def test_in(self):
         chain = Chain(Shrink(4, 2), CropWidth(1, 1, keep="left"), Turn())
@@ -290,7 +280,7 @@ class StepTest(ChainTest):
                 self.assertIs(chain[index], chain.steps[index])
 
 
-class EqualityTest(ChainTest):
+class EqualityTest(ProgramTest):
 
     def test_chains(self):
         texts = [str(chain) for chain in CHAINS]
@@ -318,7 +308,7 @@ class EqualityTest(ChainTest):
             self.assertIs(chain in Size(10 ** 9, 10 ** 9), False)
 
 
-class ChangeTest(ChainTest):
+class ChangeTest(ProgramTest):
 
     def test_nothing_changes_a_chain(self):
         chain = Chain(BOX, SQUARE)

@@ -56,7 +56,27 @@ def read(text):
     return Chain.read(text)
 
 
-class CompareTest(ProgramTest):
+class PairTest(ProgramTest):
+    """A test case for what is asked of two chains."""
+
+    def check_each_way(self, check, pairs):
+        for one, other in pairs:
+            with self.subTest(one=one, other=other):
+                check(read(one), read(other))
+                check(read(other), read(one))
+
+    def assert_refuses_no_chains(self, call):
+        """The call refuses what is no chain, for each of both, the first one first."""
+        chain = read("shrink 4x2")
+        for value in NO_CHAINS:
+            self.assert_refused(InvalidChain, value, call, value, chain)
+            self.assert_refused(InvalidChain, value, call, chain, value)
+            self.assert_refused(InvalidChain, value, call, value, None)
+            self.assert_refused(InvalidChain, value, call, other=None, chain=value)
+            self.assert_refused(InvalidChain, value, call, other=value, chain=chain)
+
+
+class CompareTest(PairTest):
 
     def check_same(self, chain, other):
         self.assertIs(same_effect(chain, other), True)
@@ -75,16 +95,10 @@ class CompareTest(ProgramTest):
         self.assertEqual(difference(read(str(chain)), read(str(other))), size)
 
     def test_same(self):
-        for one, other in SAME:
-            with self.subTest(one=one, other=other):
-                self.check_same(read(one), read(other))
-                self.check_same(read(other), read(one))
+        self.check_each_way(self.check_same, SAME)
 
     def test_different(self):
-        for one, other in DIFFERENT:
-            with self.subTest(one=one, other=other):
-                self.check_different(read(one), read(other))
-                self.check_different(read(other), read(one))
+        self.check_each_way(self.check_different, DIFFERENT)
 
     def test_any_two(self):
         for chain in CHAINS[::3]:
@@ -185,17 +199,12 @@ class RepeatTest(ProgramTest):
         return all(chain(chain(size)) == chain(size) for size in sizes)
 
 
-class RefusalTest(ProgramTest):
+class RefusalTest(PairTest):
 
     def test_the_first_one(self):
         chain = read("shrink 4x2")
         for call in (same_effect, difference, commute):
-            for value in NO_CHAINS:
-                self.assert_refused(InvalidChain, value, call, value, chain)
-                self.assert_refused(InvalidChain, value, call, chain, value)
-                self.assert_refused(InvalidChain, value, call, value, None)
-                self.assert_refused(InvalidChain, value, call, other=None, chain=value)
-                self.assert_refused(InvalidChain, value, call, other=value, chain=chain)
+            self.assert_refuses_no_chains(call)
         for value in NO_CHAINS:
             self.assert_refused(InvalidChain, value, is_stable, value)
             self.assert_refused(InvalidChain, value, is_stable, chain=value)

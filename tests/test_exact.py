@@ -6,7 +6,8 @@ from fractions import Fraction
 from math import gcd
 
 from sizechains.errors import InvalidFraction, InvalidText
-from sizechains.exact import compare, format_fraction, fraction, is_fraction, parse_fraction, product, quotient
+from sizechains.exact import (
+    compare, format_fraction, fraction, greater, is_fraction, is_within, lesser, parse_fraction, product, quotient)
 from sizechains.sizes import Size
 from tests.helper import FORTY, LONG, WRONG_FRACTIONS, WRONG_SIDES, ProgramTest
 
@@ -258,6 +259,25 @@ class TextTest(ProgramTest):
         self.assertEqual(parse_fraction("3/2"), (3, 2))
         self.assert_refused(InvalidFraction, (6, 4), format_fraction, (6, 4))
         self.assertEqual(format_fraction((3, 2)), "3/2")
+
+
+class LimitTest(ProgramTest):
+
+    def test_lesser_and_greater(self):
+        for one in FRACTIONS:
+            for other in FRACTIONS:
+                pairs = sorted([one, other], key=lambda pair: Fraction(*pair))
+                self.assertEqual([lesser(one, other), greater(one, other)], pairs)
+            for call in (lesser, greater):
+                self.assertEqual([call(one, None), call(None, one), call(None, None)], [one, one, None])
+
+    def test_within(self):
+        for number in SMALL[::3]:
+            for low in [None] + SMALL[::4]:
+                for high in [None] + SMALL[::5]:
+                    expected = (low is None or Fraction(*low) <= Fraction(*number)) and \
+                        (high is None or Fraction(*number) <= Fraction(*high))
+                    self.assertIs(is_within(number, low, high), expected)
 
 
 class CallsTest(ProgramTest):

@@ -7,7 +7,7 @@ from sizechains.errors import InvalidChain, InvalidSize
 from sizechains.exact import compare, is_fraction
 from sizechains.sizes import Size
 from sizechains.tables import result_by, row_of, table
-from tests.helper import FORTY, ProgramTest
+from tests.helper import FORTY, NO_SIZES, ProgramTest
 from tests.model import (
     chain_result, number, random_chains, ratios_to_try, row_result, scaling_chains, size_of, sizes_to_try)
 from tests.test_chains import NO_CHAINS
@@ -233,7 +233,7 @@ class RefusalTest(ProgramTest):
     def test_sizes(self):
         chain = Chain.read("shrink 4x2")
         row = table(chain)[0]
-        for value in (None, True, 0, 8, (8, 6), ((8, 1), (6, 1)), [8, 6], "8x6", b"8x6", object(), Size, chain, row):
+        for value in NO_SIZES + (chain, row):
             self.assert_refused(InvalidSize, value, row_of, chain, value)
             self.assert_refused(InvalidSize, value, result_by, row, value)
             self.assert_refused(InvalidSize, value, result_by, size=value, row=row)
