@@ -1,8 +1,12 @@
-"""The examples of the document, as they stand there."""
+"""The examples of the document, as they stand there, and those of README.md."""
 
+import doctest
 import unittest
+from pathlib import Path
 
 from tests.helper import run_example
+
+README = Path(__file__).resolve().parent.parent / "README.md"
 
 EXACT = '''
 >>> from sizechains.exact import compare, format_fraction, fraction, parse_fraction, product, quotient
@@ -85,9 +89,97 @@ COMPARING = '''
 >>> [same_effect(Chain.read("shrink 4x2, shrink 3x3"), Chain.read("shrink 3x2")), (box + square)(size) == (square + box)(size), commute(box, square), is_stable(box), is_stable(Chain.read("turn 1"))]
 [True, False, False, True, False]
 '''
+PROMISES = '''
+>>> from sizechains.chains import Chain
+>>> from sizechains.promises import always_covers, always_fits, limits_of, misfit
+>>> from sizechains.sizes import Size
+>>> chain = Chain.read("shrink 4x2, turn 1")
+>>> size = misfit(chain, 4, 2)
+>>> [always_fits(chain, 2, 4), chain(size) in Size(4, 2), always_covers(Chain.read("grow 3x2 cover"), 3, 2), limits_of(Chain.read("shrink 4x2, width 1:1 center"))]
+[True, False, True, (None, (2, 1), None, (2, 1), None, (1, 1))]
+'''
+RESULTS = '''
+>>> from sizechains.chains import Chain
+>>> from sizechains.results import count_sources, has_result, source
+>>> from sizechains.sizes import Size
+>>> box = Chain.read("shrink 4x2")
+>>> first = [has_result(box, Size(4, 1)), has_result(box, Size(5, 1)), box(source(box, Size(4, 1))) == Size(4, 1), source(box, Size(5, 1))]
+>>> first + [count_sources(box, Size(4, 1)), count_sources(box, Size(1, 1)), count_sources(Chain.read("landscape"), Size(2, 1))]
+[True, False, True, None, None, 1, 2]
+'''
+VIEWS = '''
+>>> from sizechains.chains import Chain
+>>> from sizechains.sizes import Size
+>>> from sizechains.views import same_pictures, view
+>>> first = [view(Chain.read("width 1:1 left"), Size(4, 2)), view(Chain.read("turn 2, width 1:1 left"), Size(4, 2))]
+>>> first + [same_pictures(Chain.read("turn 2, turn 2"), Chain()), same_pictures(Chain.read("turn 2"), Chain())]
+[(0, (0, 1), (0, 1), (1, 2), (1, 1)), (2, (1, 2), (0, 1), (1, 1), (1, 1)), True, False]
+'''
+VIEWS_AT_ONE_RATIO = '''
+>>> from sizechains.chains import Chain
+>>> from sizechains.comparing import same_effect
+>>> from sizechains.views import picture_difference
+>>> chain, other = Chain.read("landscape, turn 1"), Chain.read("landscape, portrait")
+>>> [same_effect(chain, other), picture_difference(chain, other).ratio]
+[True, (1, 1)]
+'''
+RECORDS = '''
+>>> from sizechains.records import barring, explains, find_box
+>>> from sizechains.sizes import Size
+>>> records = ((Size(8, 6), Size(4, 3)), (Size(2, 2), Size(2, 2)))
+>>> step = find_box("shrink", records)
+>>> [explains(step, records), barring("shrink", records), barring("shrink", records + ((Size(8, 8), Size(2, 2)),)), find_box("grow", records)]
+[True, None, (0, 2), None]
+'''
+GALLERY = r'''
+>>> from sizechains.chains import Chain
+>>> from sizechains.gallery import Gallery
+>>> from sizechains.sizes import Size
+>>> gallery = Gallery(sea=Size(800, 600), hill=Size(300, 400))
+>>> gallery.change(Chain.read("landscape, shrink 100x50"))
+>>> gallery.change(Chain.read("turn 1"), "sea")
+>>> first = [gallery.names, str(gallery.size_of("sea")), repr(gallery.log), list(gallery.fitting(Size(70, 60))), gallery.listing()]
+>>> gallery.undo(times=2)
+>>> first + [str(gallery.size_of("hill")), gallery.log, "sea" in gallery]
+[('hill', 'sea'), '50x200/3', "(('change', Chain(2), ()), ('change', Chain(1), ('sea',)))", ['hill'], 'hill            200/3           50\nsea                50        200/3', '300x400', (), True]
+'''
+GALLERY_REFUSED = '''
+>>> from sizechains.gallery import Gallery
+>>> from sizechains.sizes import Size
+>>> Gallery(sea=Size(800, 600)).do_all(("remove", "sea"), ("remove", "sea"))
+raises UnknownName(value='sea')
+'''
+CHECKER = '''
+>>> from sizechains.checker import check
+>>> records = (("8x6", "4x3"), ("8x8", "2x2"))
+>>> first = [check(("same", "shrink 4x2, shrink 3x3", "shrink 3x2"), None), check(("different", "turn 1", ""), "2x1"), check(("fits", "shrink 4x2", "4x2"), None)]
+>>> first + [check(("no result", "shrink 4x2", "5x1"), None), check(("no box", "shrink", records), (0, 1)), check(("box", "shrink", records), "shrink 4x3"), check(("same", "turn 1"), None)]
+[True, True, True, True, True, False, False]
+'''
+CERTIFICATES = '''
+>>> from sizechains.certificates import effect_certificate, result_certificate
+>>> from sizechains.chains import Chain
+>>> from sizechains.checker import check
+>>> from sizechains.sizes import Size
+>>> claim, paper = result_certificate(Chain.read("shrink 4x2"), Size(4, 1))
+>>> [claim, check(claim, paper), effect_certificate(Chain.read("turn 2"), Chain())]
+[('result', 'shrink 4x2', '4x1'), True, (('same', 'turn 2', ''), None)]
+'''
+CONSOLE = '''
+>>> from sizechains.console import Console
+>>> console = Console()
+>>> [console.say("add sea 800x600"), console.say("apply shrink 4x4, turn 1 to sea"), console.say("size sea"), console.say("names"), console.say("same turn 2 / turn 1, turn 3")]
+['ok', 'ok', '3x4', 'sea', 'yes']
+'''
+CONSOLE_REFUSED = '''
+>>> from sizechains.console import Console
+>>> Console().say("apply")
+raises InvalidLine(value='apply')
+'''
 EXAMPLES = (
     EXACT, EXACT_REFUSED, SIZES, SIZES_REFUSED, STEPS, STEPS_READ, STEPS_REFUSED, CHAINS, CHAINS_REFUSED, TABLES,
-    TABLES_CROPPED, TABLES_TURNED, COMPARING)
+    TABLES_CROPPED, TABLES_TURNED, COMPARING, PROMISES, RESULTS, VIEWS, VIEWS_AT_ONE_RATIO, RECORDS, GALLERY,
+    GALLERY_REFUSED, CHECKER, CERTIFICATES, CONSOLE, CONSOLE_REFUSED)
 
 
 class DocumentTest(unittest.TestCase):
@@ -97,6 +189,14 @@ class DocumentTest(unittest.TestCase):
             with self.subTest(text=text):
                 found, expected = run_example(text)
                 self.assertEqual(found, expected)
+
+    def test_readme(self):
+        text = README.read_text().replace("```", "\n")
+        examples = doctest.DocTestParser().get_doctest(text, {}, "README.md", str(README), 0)
+        self.assertGreater(len(examples.examples), 40)
+        told = []
+        doctest.DocTestRunner(verbose=False).run(examples, out=told.append)
+        self.assertEqual(told, [])
 
 
 if __name__ == "__main__":

@@ -3,7 +3,9 @@
 import inspect
 import unittest
 
-from sizechains import chains, comparing, exact, sizes, steps, tables
+from sizechains import (
+    certificates, chains, checker, comparing, console, exact, gallery, promises, records, results, sizes, steps, tables,
+    views)
 
 FUNCTIONS = {
     exact: {
@@ -22,6 +24,41 @@ FUNCTIONS = {
         "is_stable": "(chain)",
         "commute": "(chain, other)",
     },
+    promises: {
+        "always_fits": "(chain, width, height)",
+        "misfit": "(chain, width, height)",
+        "always_covers": "(chain, width, height)",
+        "gap": "(chain, width, height)",
+        "limits_of": "(chain)",
+    },
+    results: {"has_result": "(chain, size)", "source": "(chain, size)", "count_sources": "(chain, size)"},
+    views: {
+        "view": "(chain, size)",
+        "same_pictures": "(chain, other)",
+        "picture_difference": "(chain, other)",
+    },
+    records: {
+        "explains": "(step, records)",
+        "find_box": "(kind, records, *, cover=False)",
+        "barring": "(kind, records, *, cover=False)",
+    },
+    checker: {"check": "(claim, paper)"},
+    certificates: {
+        "effect_certificate": "(chain, other)",
+        "fit_certificate": "(chain, size)",
+        "result_certificate": "(chain, size)",
+        "box_certificate": "(kind, records, *, cover=False)",
+    },
+}
+GALLERY = {
+    "add": "(self, name, size)",
+    "remove": "(self, name)",
+    "change": "(self, chain, *names)",
+    "do_all": "(self, *deeds, watch=None)",
+    "undo": "(self, *, times=1)",
+    "size_of": "(self, name)",
+    "fitting": "(self, size)",
+    "listing": "(self)",
 }
 STEPS = {
     "Shrink": "(width, height, *, cover=False)",
@@ -67,6 +104,17 @@ class InterfaceTest(unittest.TestCase):
         self.assertEqual(str(inspect.signature(chains.Chain.read)), "(text)")
         self.assertEqual(str(inspect.signature(chains.Chain.walk)), "(self, size)")
         self.assertEqual(str(inspect.signature(chains.Chain())), "(size)")
+
+    def test_gallery(self):
+        self.assertEqual(gallery.Gallery.__module__, "sizechains.gallery")
+        self.assertEqual(str(inspect.signature(gallery.Gallery)), "(**pictures)")
+        for name, arguments in GALLERY.items():
+            self.assertEqual(str(inspect.signature(vars(gallery.Gallery)[name])), arguments)
+
+    def test_console(self):
+        self.assertEqual(console.Console.__module__, "sizechains.console")
+        self.assertEqual(str(inspect.signature(console.Console)), "()")
+        self.assertEqual(str(inspect.signature(console.Console.say)), "(self, line)")
 
 
 if __name__ == "__main__":
