@@ -66,7 +66,7 @@ def view_at(steps, ratio):
                 ratio = lowest_terms(step.width, step.height)
         else:
             times = quarter_turns(step, ratio)
-            seen = ((seen[0] + times) % 4, *seen[1:])
+            seen = ((seen[0] + times) % 4,) + seen[1:]
             if times % 2 == 1:
                 ratio = (ratio[1], ratio[0])
     return seen
